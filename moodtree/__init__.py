@@ -1,0 +1,1 @@
+"""Moodtree: moods within moods, run as they stand and run flat."""
