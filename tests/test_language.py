@@ -22,6 +22,9 @@ BUILT_IN = """len range enumerate zip min max sum abs sorted reversed int str bo
 METHODS = """append clear copy count endswith extend find get index insert isalnum isalpha isdigit islower isspace
     isupper items join keys ljust lower lstrip partition pop remove replace reverse rfind rjust rpartition rsplit
     rstrip setdefault split splitlines startswith strip update upper values zfill bit_length""".split()
+KEYWORDS = {"sorted": ("key", "reverse"), "min": ("key", "default"), "max": ("key", "default"),
+            "sum": ("start",), "enumerate": ("start",), "zip": ("strict",)}
+WALKERS = "list tuple dict sorted sum any all enumerate zip min max".split()
 DOUBLE = "__init__ __eq__ __repr__ __str__ __len__".split()
 NO_NAMES = """register mro elements open input version_info with_traceback add_note attrgetter methodcaller
     importlib gc os sys super type vars id dir format format_map""".split()
@@ -46,6 +49,8 @@ def faults_of_top(tree):
         is_docstring = place == 0 and ast.get_docstring(tree) is not None
         if not is_docstring and not isinstance(node, TOP):
             found.append(f"L3 line {node.lineno}")
+        if isinstance(node, ast.Assign) and not is_plain(node.value):
+            found.append(f"L3 value {node.lineno}")
     bound = names_of_top(tree)
     return found + [f"L15 {name}" for name in sorted(set(bound)) if bound.count(name) > 1]
 
@@ -106,6 +111,76 @@ def faults_of_names(tree, own_attributes):
     return found
 
 
+def faults_of_locals(tree):
+    """Parameters and locals that are called like an import, a class or a def of their file."""
+    taken = names_of_top(tree)
+    found = []
+    for top in tree.body:
+        if not isinstance(top, (ast.FunctionDef, ast.ClassDef)):
+            continue
+        for node in ast.walk(top):
+            name = None
+            if isinstance(node, ast.arg):
+                name = node.arg
+            elif isinstance(node, ast.Name) and isinstance(node.ctx, ast.Store):
+                name = node.id
+            if name in taken:
+                found.append(f"L15 {name}")
+    return found
+
+
+def faults_of_calls(tree):
+    """Sets, walks, keywords and comparisons that stand where they may not."""
+    parents = {}
+    for node in ast.walk(tree):
+        for child in ast.iter_child_nodes(node):
+            parents[child] = node
+    found = []
+    for node in ast.walk(tree):
+        if isinstance(node, ast.Compare):
+            for place, sort in enumerate(node.ops):
+                if isinstance(sort, (ast.Is, ast.IsNot)):
+                    other = node.comparators[place]
+                    if not isinstance(other, ast.Constant) or other.value not in (None, True, False):
+                        found.append("L20")
+        if isinstance(node, ast.BinOp) and isinstance(node.op, ast.Pow):
+            if not isinstance(node.right, ast.Constant) or not 0 <= node.right.value <= 64:
+                found.append("L27 power")
+        if isinstance(node, ast.Call) and isinstance(node.func, ast.Name):
+            found += faults_of_call(node, parents[node])
+        if isinstance(node, ast.Raise) and not isinstance(node.exc, ast.Call):
+            found.append("L19 raise")
+        if isinstance(node, ast.ExceptHandler) and (node.type is None or "Exception" in ast.dump(node.type)):
+            found.append("L19 except")
+    return found
+
+
+def faults_of_call(node, parent):
+    name = node.func.id
+    outer = parent.func.id if isinstance(parent, ast.Call) and isinstance(parent.func, ast.Name) else None
+    found = []
+    if name == "set" and not isinstance(parent, (ast.Compare, ast.BinOp)) and outer not in ("sorted", "len"):
+        found.append("L24 set")
+    if name in ("zip", "enumerate", "reversed", "range") and not isinstance(parent, (ast.For, ast.comprehension)):
+        if outer not in WALKERS and not isinstance(parent, ast.Compare):
+            found.append(f"L23 {name}")
+    for keyword in node.keywords:
+        if name in BUILT_IN and keyword.arg not in KEYWORDS.get(name, ()):
+            found.append(f"L22 {keyword.arg}")
+    return found
+
+
+def is_plain(node):
+    """A value that may stand at a file's top; names there are of functions above."""
+    if isinstance(node, (ast.List, ast.Tuple)):
+        return all(is_plain(part) for part in node.elts)
+    if isinstance(node, ast.Dict):
+        return all(is_plain(part) for part in node.keys + node.values)
+    if isinstance(node, ast.UnaryOp):
+        return isinstance(node.op, ast.USub) and is_plain(node.operand)
+    return isinstance(node, (ast.Constant, ast.Name))
+
+
 def names_defined(tree):
     names = [node.name for node in tree.body if isinstance(node, (ast.FunctionDef, ast.ClassDef))]
     for node in tree.body:
@@ -138,6 +213,7 @@ def methods_and_values(trees):
 def faults(text, own_attributes=()):
     tree = ast.parse(text)
     found = faults_of_text(text) + faults_of_top(tree) + faults_of_names(tree, own_attributes)
+    found += faults_of_locals(tree) + faults_of_calls(tree)
     for node in ast.walk(tree):
         kind = type(node).__name__
         if kind not in NODES:
@@ -222,6 +298,16 @@ class FaultsTest(unittest.TestCase):
             "def a(x):\n" + "    x += 1\n" * 40,
             "A = 1\n" + "\n" * 400,
             "class A:\n    b = 1\n",
+            "A = 10 ** 30\n",
+            "from moodtree.tree import top\n\n\ndef a(top):\n    return top\n",
+            "from moodtree.tree import top\n\n\ndef a(x):\n    for top in x:\n        return top\n",
+            "def a(x):\n    return x is 3\n",
+            "def a(x):\n    return 2 ** x\n",
+            "def a(x):\n    y = set(x)\n    return y\n",
+            "def a(x):\n    y = reversed(x)\n    return y\n",
+            "def a(x):\n    return int(x, base=10)\n",
+            "def a(x):\n    raise ValueError\n",
+            "def a(x):\n    try:\n        return x\n    except Exception:\n        return 1\n",
         ):
             self.assertNotEqual(faults(text), [], text[:60])
 

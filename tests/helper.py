@@ -1,0 +1,84 @@
+"""What several test files need: trees and charts to ask, made by hand or drawn from a seed."""
+
+import random
+
+from moodtree.chart import Chart
+from moodtree.tree import Tree
+
+LEAF, ONE, ALL = "leaf", "one", "all"
+
+
+def tree_of(rows):
+    """A tree of rows of (kind, elder, start)."""
+    return Tree([row[0] for row in rows], [row[1] for row in rows], [row[2] for row in rows])
+
+
+def chain(many):
+    """A tree in which each mood but the last one is a one with the next mood in it."""
+    kinds = [ONE] * (many - 1) + [LEAF]
+    return Tree(kinds, list(range(-1, many - 1)), list(range(1, many)) + [-1])
+
+
+def wide(many):
+    """An all with leaves in it."""
+    return Tree([ALL] + [LEAF] * many, [-1] + [0] * many, [-1] * (many + 1))
+
+
+# 0 all
+#   1 one         2 leaf, 3 all (4 one (5 leaf, 6 leaf), 7 leaf)
+#   8 one         9 one (10 leaf), 11 leaf
+#   12 leaf
+def mixed():
+    return tree_of([
+        (ALL, -1, -1),
+        (ONE, 0, 2), (LEAF, 1, -1), (ALL, 1, -1), (ONE, 3, 6), (LEAF, 4, -1), (LEAF, 4, -1), (LEAF, 3, -1),
+        (ONE, 0, 11), (ONE, 8, 10), (LEAF, 9, -1), (LEAF, 8, -1),
+        (LEAF, 0, -1),
+    ])
+
+
+def trees():
+    return [chain(1), chain(2), chain(13), wide(1), wide(40), mixed()] + [drawn_tree(seed, 30) for seed in range(20)]
+
+
+def drawn_tree(seed, many, deepest=12):
+    """A tree that is let, of up to `many` moods."""
+    draw = random.Random(f"tree {seed}")
+    elders = [-1]
+    depths = [0]
+    for mood in range(1, draw.randint(1, many)):
+        line = [mood - 1]
+        while elders[line[-1]] != -1:
+            line.append(elders[line[-1]])
+        line = [elder for elder in line if depths[elder] < deepest]
+        elders.append(draw.choice(line[:draw.randint(1, len(line))]))
+        depths.append(depths[elders[-1]] + 1)
+    kinds, starts = [], []
+    for mood in range(len(elders)):
+        within = [place for place, elder in enumerate(elders) if elder == mood]
+        kinds.append(draw.choice((ONE, ONE, ALL)) if within else LEAF)
+        starts.append(draw.choice(within) if kinds[-1] == ONE else -1)
+    return Tree(kinds, elders, starts)
+
+
+def spelled_tree(tree):
+    """All that a tree holds, as a text that tells lists from tuples."""
+    return repr((tree.kinds, tree.elders, tree.starts))
+
+
+def spelled(chart):
+    """All that a chart holds, as a text that tells lists from tuples."""
+    return repr((chart.boxes, chart.names, chart.ins, chart.outs, chart.ways)) + spelled_tree(chart.tree)
+
+
+def chart_of(tree, boxes=(), ways=(), ins=None, outs=None):
+    """A chart over a tree, its moods named m0, m1 and so on; `ins` and `outs` are dicts from moods to deeds."""
+    moods = range(len(tree.kinds))
+    return Chart(
+        list(boxes),
+        [f"m{mood}" for mood in moods],
+        tree,
+        [tuple((ins or {}).get(mood, ())) for mood in moods],
+        [tuple((outs or {}).get(mood, ())) for mood in moods],
+        list(ways),
+    )
