@@ -9,6 +9,14 @@ LETTERS = "abcdefghijklmnopqrstuvwxyz"
 LETTERS_AND_FIGURES = "abcdefghijklmnopqrstuvwxyz0123456789"
 LONGEST_NAME = 12
 
+# Where a way keeps what it tells.
+SOURCE = 0
+SIGN = 1
+ASKS = 2
+DEEDS = 3
+TARGET = 4
+MODE = 5
+
 
 class Chart:
     def __init__(self, boxes, names, tree, ins, outs, ways):
@@ -23,7 +31,7 @@ class Chart:
 def signs(chart):
     found = {}
     for way in chart.ways:
-        found[way[1]] = True
+        found[way[SIGN]] = True
     return list(found)
 
 

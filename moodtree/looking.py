@@ -1,6 +1,6 @@
 """Charts looked at: what is right in them, and which refusal comes first where something is not."""
 
-from moodtree.chart import is_name
+from moodtree.chart import ASKS, DEEDS, MODE, SIGN, SOURCE, TARGET, is_name
 from moodtree.errors import BadBox, BadDeed, BadName, BadTree, BadWay
 from moodtree.tree import above, depth
 
@@ -79,7 +79,7 @@ def are_deeds_right(chart):
     many = len(chart.names)
     if len(chart.ins) != many or len(chart.outs) != many:
         return False
-    for deeds in chart.ins + chart.outs + [way[3] for way in chart.ways]:
+    for deeds in chart.ins + chart.outs + [way[DEEDS] for way in chart.ways]:
         for deed in deeds:
             if not is_deed_right(chart, deed):
                 return False
@@ -89,24 +89,23 @@ def are_deeds_right(chart):
 def are_ways_right(chart):
     last = 0
     for way in chart.ways:
-        if way[0] < last or not is_way_right(chart, way):
+        if way[SOURCE] < last or not is_way_right(chart, way):
             return False
-        last = way[0]
+        last = way[SOURCE]
     return True
 
 
 def is_way_right(chart, way):
-    source = way[0]
-    target = way[4]
-    mode = way[5]
-    if not is_place(source, chart.names) or not is_name(way[1]) or mode not in MODES:
+    target = way[TARGET]
+    mode = way[MODE]
+    if not is_place(way[SOURCE], chart.names) or not is_name(way[SIGN]) or mode not in MODES:
         return False
     if target == -1:
         if mode != "new":
             return False
     elif not is_place(target, chart.names):
         return False
-    for ask in way[2]:
+    for ask in way[ASKS]:
         if not is_ask_right(chart, ask):
             return False
     return True

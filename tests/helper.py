@@ -82,3 +82,50 @@ def chart_of(tree, boxes=(), ways=(), ins=None, outs=None):
         [tuple((outs or {}).get(mood, ())) for mood in moods],
         list(ways),
     )
+
+
+NUMBERS = (0, 0, 1, -1, 2, 3, -7, 10 ** 30 - 1, 1 - 10 ** 30)
+SIGNS = ("go", "a", "b", "sign", "z9")
+
+
+def drawn_term(draw, boxes, numbers):
+    return (draw.randint(-1, len(boxes) - 1), draw.choice(numbers))
+
+
+def drawn_deed(draw, boxes, numbers):
+    word = draw.choice(("put", "put", "say", "call") if boxes else ("say", "call"))
+    if word == "call":
+        return ("call", draw.choice(SIGNS))
+    if word == "say":
+        return ("say", draw.choice(("hello", "m0", "b1")), drawn_term(draw, boxes, numbers))
+    return ("put", draw.randrange(len(boxes)), drawn_term(draw, boxes, numbers))
+
+
+def drawn_ask(draw, boxes, moods, numbers):
+    if draw.random() < 0.4:
+        return (draw.choice(("open", "shut")), draw.randrange(moods))
+    mark = draw.choice(("<", "<=", "=", "!="))
+    return (mark, drawn_term(draw, boxes, numbers), drawn_term(draw, boxes, numbers))
+
+
+def drawn_way(draw, source, boxes, moods, signs, numbers):
+    asks = [drawn_ask(draw, boxes, moods, numbers) for _ in range(draw.choice((0, 0, 0, 1, 1, 2)))]
+    deeds = [drawn_deed(draw, boxes, numbers) for _ in range(draw.choice((0, 0, 1, 1, 2)))]
+    target = draw.randrange(moods) if draw.random() < 0.85 else -1
+    mode = draw.choice(("new", "near", "far")) if target != -1 else "new"
+    return (source, draw.choice(signs), tuple(asks), tuple(deeds), target, mode)
+
+
+def drawn_chart(seed, moods=12, ways=8, signs=SIGNS, numbers=NUMBERS):
+    """A chart that is let, with up to so many moods and ways."""
+    draw = random.Random(f"chart {seed}")
+    tree = drawn_tree(f"chart {seed}", moods)
+    many = len(tree.kinds)
+    boxes = [(f"b{place}", draw.choice(numbers)) for place in range(draw.randint(0, 3))]
+    sources = sorted(draw.randrange(many) for _ in range(draw.randint(0, ways)))
+    deeds = [
+        [tuple(drawn_deed(draw, boxes, numbers) for _ in range(draw.choice((0, 0, 0, 1, 2)))) for _ in range(many)]
+        for _ in ("ins", "outs")
+    ]
+    drawn_ways = [drawn_way(draw, source, boxes, many, signs, numbers) for source in sources]
+    return Chart(boxes, [f"m{mood}" for mood in range(many)], tree, deeds[0], deeds[1], drawn_ways)
