@@ -7,12 +7,12 @@ from moodtree.tree import above, depth, within
 
 
 def goable(chart, opens, leaf, sign):
+    line = [leaf] + above(chart.tree, leaf)
     found = []
-    for source in [leaf] + above(chart.tree, leaf):
-        for number, way in enumerate(chart.ways):
-            if way[SOURCE] == source and way[SIGN] == sign and fits(way[ASKS], opens):
-                found.append(number)
-    return found
+    for number, way in enumerate(chart.ways):
+        if way[SIGN] == sign and way[SOURCE] in line and fits(way[ASKS], opens):
+            found.append(number)
+    return sorted(found, key=lambda way: line.index(chart.ways[way][SOURCE]))
 
 
 def fits(asks, opens):
@@ -54,16 +54,23 @@ def way_top(chart, number):
 def meet(chart, one, other):
     if not has_target(chart, one) or not has_target(chart, other):
         return False
-    first = way_top(chart, one)
-    second = way_top(chart, other)
-    if first == second or first == -1 or second == -1:
+    return tops_meet(chart.tree, way_top(chart, one), way_top(chart, other))
+
+
+def tops_meet(tree, one, other):
+    if one == other or one == -1 or other == -1:
         return True
-    return within(chart.tree, first, second) or within(chart.tree, second, first)
+    return within(tree, one, other) or within(tree, other, one)
 
 
 def kept(chart, found):
     chosen = []
+    tops = []
     for number in sorted(found, key=lambda way: -depth(chart.tree, chart.ways[way][SOURCE])):
-        if not any([meet(chart, number, other) for other in chosen]):
-            chosen.append(number)
+        if has_target(chart, number):
+            upper = way_top(chart, number)
+            if any([tops_meet(chart.tree, upper, other) for other in tops]):
+                continue
+            tops.append(upper)
+        chosen.append(number)
     return sorted(chosen)

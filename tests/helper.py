@@ -129,3 +129,8 @@ def drawn_chart(seed, moods=12, ways=8, signs=SIGNS, numbers=NUMBERS):
     ]
     drawn_ways = [drawn_way(draw, source, boxes, many, signs, numbers) for source in sources]
     return Chart(boxes, [f"m{mood}" for mood in range(many)], tree, deeds[0], deeds[1], drawn_ways)
+
+
+def spelled_table(table):
+    """All that a table holds, as a text that tells lists from tuples."""
+    return repr((table.boxes, table.signs, table.begin, table.flats, sorted(table.rows.items())))
