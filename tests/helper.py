@@ -3,6 +3,7 @@
 import random
 
 from moodtree.chart import Chart
+from moodtree.flat import Table
 from moodtree.tree import Tree
 
 LEAF, ONE, ALL = "leaf", "one", "all"
@@ -134,3 +135,34 @@ def drawn_chart(seed, moods=12, ways=8, signs=SIGNS, numbers=NUMBERS):
 def spelled_table(table):
     """All that a table holds, as a text that tells lists from tuples."""
     return repr((table.boxes, table.signs, table.begin, table.flats, sorted(table.rows.items())))
+
+
+ASK = ("<", (0, 0), (-1, 3))
+LOOKS = (
+    ((), ()),
+    ((), (("out", 1), ("way", 0), ("in", 1))),
+    ((), (("call", "a"),)),
+    ((), (("way", 2), ("call", "a"), ("keep", 0, -1, 1))),
+    ((ASK,), ()),
+    ((ASK,), (("say", "w", (0, 0)),)),
+    ((ASK, ASK), (("in", 1),)),
+)
+
+
+def drawn_table(seed, flats=8, looks=LOOKS):
+    """A table made by hand, as it were, with flats that nothing leads to; the last row of each list asks nothing."""
+    draw = random.Random(f"table {seed}")
+    many = draw.randint(1, flats)
+    names = ("a", "b", "c")[:draw.randint(1, 3)]
+    looks = draw.sample(looks, draw.randint(1, 3))
+    plain = [look for look in looks if not look[0]] or [((), ())]
+    rows = {}
+    # Few shapes for many flats: so there are alike ones.
+    shapes = [{name: draw.choice((0, 1, 1, 2)) for name in names} for _ in range(draw.choice((1, 1, 2)))]
+    for number in range(many):
+        shape = draw.choice(shapes)
+        for name in names:
+            chosen = [draw.choice(looks) for _ in range(shape[name])] + [draw.choice(plain)]
+            rows[(number, name)] = [look + (draw.randrange(many),) for look in chosen]
+    pairs = [(tuple(sorted(draw.sample(range(9), draw.randint(0, 3)))), (number,)) for number in range(many)]
+    return Table([("x", draw.randint(0, 4))], names, draw.choice(looks)[1], pairs, rows)

@@ -136,6 +136,7 @@ def faults_of_calls(tree):
         for child in ast.iter_child_nodes(node):
             parents[child] = node
     found = []
+    lambdas = []
     for node in ast.walk(tree):
         if isinstance(node, ast.Compare):
             for place, sort in enumerate(node.ops):
@@ -148,11 +149,13 @@ def faults_of_calls(tree):
                 found.append("L27 power")
         if isinstance(node, ast.Call) and isinstance(node.func, ast.Name):
             found += faults_of_call(node, parents[node])
+        if isinstance(node, ast.Lambda):
+            lambdas.append((node.lineno, ast.dump(node.args)))
         if isinstance(node, ast.Raise) and not isinstance(node.exc, ast.Call):
             found.append("L19 raise")
         if isinstance(node, ast.ExceptHandler) and (node.type is None or "Exception" in ast.dump(node.type)):
             found.append("L19 except")
-    return found
+    return found + (["L13 lambda"] if len(set(lambdas)) < len(lambdas) else [])
 
 
 def faults_of_call(node, parent):
@@ -307,6 +310,7 @@ class FaultsTest(unittest.TestCase):
             "def a(x):\n    y = reversed(x)\n    return y\n",
             "def a(x):\n    return int(x, base=10)\n",
             "def a(x):\n    raise ValueError\n",
+            "def a(x):\n    return x(lambda y: y, lambda y: x)\n",
             "def a(x):\n    try:\n        return x\n    except Exception:\n        return 1\n",
         ):
             self.assertNotEqual(faults(text), [], text[:60])
