@@ -8,16 +8,19 @@ def is_whole(tree, opens):
     if not is_rising(opens) or len(opens) == 0 or opens[0] != 0 or opens[-1] >= len(tree.kinds):
         return False
     for mood in opens:
-        elder = tree.elders[mood]
-        if elder != -1 and elder not in opens:
+        if mood != 0 and tree.elders[mood] not in opens:
             return False
-        inside = inner(tree, mood)
-        many = len([place for place in inside if place in opens])
-        if tree.kinds[mood] == "one" and many != 1:
-            return False
-        if tree.kinds[mood] == "all" and many != len(inside):
+        if not is_filled(tree, opens, mood):
             return False
     return True
+
+
+def is_filled(tree, opens, mood):
+    kind = tree.kinds[mood]
+    if kind == "leaf":
+        return True
+    many = len([place for place in opens if tree.elders[place] == mood])
+    return many == (1 if kind == "one" else len(inner(tree, mood)))
 
 
 def is_rising(numbers):

@@ -4,12 +4,15 @@ import random
 import unittest
 
 from helper import drawn_chart, spelled, spelled_table
+from moodtree.chart import Chart
 from moodtree.errors import NoStep, TooWide
-from moodtree.flat import flattened
+from moodtree.flat import Table, flattened
 from moodtree.flatrun import FlatRun
 from moodtree.journal import told, walked, walked_back
 from moodtree.least import classes, merged
+from moodtree.looking import looked
 from moodtree.nested import NestRun
+from moodtree.paths import idle_ways
 from moodtree.reading import read
 from moodtree.unnest import unnested
 from moodtree.writing import shown
@@ -67,6 +70,32 @@ class WholeTest(unittest.TestCase):
             self.same(chart, table, least, runs)
             self.assertEqual((spelled(chart), spelled_table(table), spelled_table(least)), before)
         self.assertGreater(made, 180)
+
+    def test_rows_of_deeds_and_asks_may_be_lists(self):
+        for seed in range(120):
+            chart = drawn_chart(f"lists {seed}", 9, 7, NAMES[:2], (0, 1))
+            ways = [(way[0], way[1], list(way[2]), list(way[3]), way[4], way[5]) for way in chart.ways]
+            ins = [list(deeds) for deeds in chart.ins]
+            outs = [list(deeds) for deeds in chart.outs]
+            other = Chart(chart.boxes, chart.names, chart.tree, ins, outs, ways)
+            self.assertIsNone(looked(other))
+            self.assertEqual(shown(other), shown(chart))
+            try:
+                table = flattened(chart, 80)
+            except TooWide:
+                continue
+            self.assertEqual(spelled_table(flattened(other, 80)), spelled_table(table))
+            rows = {key: [(list(asks), list(script), behind) for asks, script, behind in table.rows[key]] for key in table.rows}
+            same = Table(table.boxes, table.signs, list(table.begin), table.flats, rows)
+            self.assertEqual(classes(same), classes(table))
+            self.assertEqual(spelled_table(merged(same)), spelled_table(merged(table)))
+            self.assertEqual(spelled(unnested(same)), spelled(unnested(table)))
+            self.assertEqual(idle_ways(chart, same), idle_ways(chart, table))
+            runs = (NestRun(chart), NestRun(other), FlatRun(table), FlatRun(same))
+            for name in NAMES * 2:
+                first = runs[0].feed(name)
+                for run in runs[1:]:
+                    self.assertEqual(run.feed(name), first)
 
     def test_the_least_table_is_that_of_the_chart_written_back_too(self):
         for seed in range(100):
