@@ -6,11 +6,10 @@ from moodtree.tree import depth
 
 def shown(chart):
     rows = [f"box {name} {first}" for name, first in chart.boxes]
-    for mood in range(len(chart.names)):
+    for mood, texts in enumerate(own_texts(chart)):
         blanks = " " * depth(chart.tree, mood)
         rows.append(blanks + mood_text(chart, mood))
-        for text in own_texts(chart, mood):
-            rows.append(blanks + " " + text)
+        rows.extend([blanks + " " + text for text in texts])
     return "\n".join(rows)
 
 
@@ -22,11 +21,15 @@ def mood_text(chart, mood):
     return " ".join(words)
 
 
-def own_texts(chart, mood):
-    texts = ["in " + deed_text(chart, deed) for deed in chart.ins[mood]]
-    texts.extend(["out " + deed_text(chart, deed) for deed in chart.outs[mood]])
-    texts.extend([way_text(chart, way) for way in chart.ways if way[SOURCE] == mood])
-    return texts
+def own_texts(chart):
+    found = []
+    for ins, outs in zip(chart.ins, chart.outs):
+        texts = ["in " + deed_text(chart, deed) for deed in ins]
+        texts.extend(["out " + deed_text(chart, deed) for deed in outs])
+        found.append(texts)
+    for way in chart.ways:
+        found[way[SOURCE]].append(way_text(chart, way))
+    return found
 
 
 def way_text(chart, way):
